@@ -1,0 +1,1 @@
+"""Everydoor: what goes past a subclass on its way into a container."""
