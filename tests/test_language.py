@@ -39,6 +39,7 @@ ALLOWED = (
     ast.Raise, ast.Try, ast.Assert, ast.ImportFrom, ast.Nonlocal, ast.Expr, ast.Pass, ast.Break,
     ast.Continue,
 )
+READING = [f"__{word}__" for word in "eq repr str len contains getitem iter".split()]
 FOLDING = ("any", "all", "min", "max", "sum", "sorted")
 
 
@@ -53,6 +54,13 @@ def names_of(node):
     """Return the names that this node itself binds or reads."""
     found = [getattr(node, field, None) for field in ("id", "arg", "attr", "name", "asname")]
     return [name for name in found if isinstance(name, str)]
+
+
+def methods_of(node):
+    """Return the methods in the body of a class."""
+    if not isinstance(node, ast.ClassDef):
+        return []
+    return [row for row in node.body if isinstance(row, ast.FunctionDef)]
 
 
 class LanguageTest(unittest.TestCase):
@@ -123,13 +131,47 @@ class LanguageTest(unittest.TestCase):
                     self.assertNotIsInstance(value, ast.GeneratorExp, file)
 
     def test_methods_and_attributes_have_different_names(self):
-        methods, attributes = set(), set()
+        methods, properties, setters, attributes = set(), set(), set(), set()
         for _, node in walk_all():
-            if isinstance(node, ast.ClassDef):
-                methods |= {row.name for row in node.body if isinstance(row, ast.FunctionDef)}
+            for row in methods_of(node):
+                signs = [ast.unparse(sign) for sign in row.decorator_list]
+                if signs == ["property"]:
+                    properties.add(row.name)
+                elif signs == [f"{row.name}.setter"]:
+                    setters.add(row.name)
+                else:
+                    methods.add(row.name)
             if isinstance(node, ast.Attribute) and isinstance(node.ctx, ast.Store):
                 attributes.add(node.attr)
-        self.assertEqual(methods & attributes, set())
+        self.assertEqual(methods & (attributes | properties), set())
+        self.assertEqual(properties & attributes, setters)
+
+    def test_generators(self):
+        generators, others = [], []
+        for file, node in walk_all():
+            if isinstance(node, ast.FunctionDef):
+                yields = [row for row in ast.walk(node) if isinstance(row, (ast.Yield, ast.YieldFrom))]
+                (generators if yields else others).append(node.name)
+                self.assertFalse(yields and node.decorator_list, file)
+        self.assertEqual(set(generators) & set(others), set())
+
+    def test_operators_and_properties_add_nothing_up(self):
+        for file, node in walk_all():
+            for row in methods_of(node):
+                signs = [ast.unparse(sign) for sign in row.decorator_list]
+                if signs == ["property"] or row.name in READING:
+                    for part in ast.walk(row):
+                        with self.subTest(file=file, method=row.name):
+                            self.assertNotIsInstance(part, ast.AugAssign)
+
+    def test_iteration(self):
+        for file, node in walk_all():
+            names = [row.name for row in methods_of(node)]
+            self.assertTrue("__iter__" in names or "__getitem__" not in names, file)
+            for row in methods_of(node):
+                if row.name == "__iter__":
+                    self.assertRegex(ast.unparse(row.body[-1]), r"^return iter\(self\.\w+\)$")
+                    self.assertEqual(len(row.body), 1, file)
 
 
 if __name__ == "__main__":
