@@ -24,6 +24,12 @@ def check_place(library, place):
         raise NoPlace(place)
 
 
+def check_view(library, place, doors):
+    """Raise the first error of the place, then of the doors; return the set of doors."""
+    check_place(library, place)
+    return order_doors(library, doors)
+
+
 def count_marks(library):
     """Return how many values marks can have: they go from 0 to one less."""
     return 1 << len(library.marks)

@@ -1,6 +1,6 @@
 """Heirs: what replaces doors at a place, and how it visits the items (points 12 and 23)."""
 
-from everydoor.checks import check_place, order_doors
+from everydoor.checks import check_view, order_doors
 from everydoor.errors import Refused
 from everydoor.walks import Walk
 
@@ -9,11 +9,10 @@ class Heir:
     """A class at a place that replaces doors, and asks its rule about each item it visits."""
 
     def __init__(self, study, rule, *doors, place=0):
-        check_place(study.library, place)
+        self.chosen = check_view(study.library, place, doors)
         self.study = study
         self.place = place
         self.rule = rule
-        self.chosen = order_doors(study.library, doors)
 
     @property
     def replaced(self):

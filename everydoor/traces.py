@@ -23,10 +23,15 @@ def visits(trace, place, doors):
 
 def is_visit(row, place, doors):
     """Return True if the row is a dispatch of one of the doors that crosses the place."""
+    return crosses(row, place) and row[2] in doors
+
+
+def crosses(row, place):
+    """Return True if the row is a dispatch that crosses the place (point 11)."""
     if row[0] != "go":
         return False
     word, level, door, start, home, own, items = row
-    return door in doors and start <= place <= home
+    return start <= place <= home
 
 
 def around(trace, index):

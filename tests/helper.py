@@ -2,12 +2,14 @@
 
 import itertools
 import random
+import re
 import unittest
 
 from everydoor.cases import Case
 from everydoor.errors import DoorError, Endless, TooLong
 from everydoor.library import Library
 from everydoor.study import Study
+from everydoor.traces import around, visits
 
 TEXT = (
     "door set one open\ndoor update many open\ndoor check one inner\nmark text\nclass Base\n"
@@ -21,6 +23,7 @@ KEPT = (
 
 
 FORTY = 10 ** 40 - 1
+GOALS = ("checked", "changed", "noted", "whole")
 
 
 def study_of(*lines):
@@ -142,6 +145,52 @@ def write_studies(seed, many):
     return studies
 
 
+def vary(writer, text):
+    """Return the text with one of its bodies changed, a little or all over, or with a class more."""
+    pick, lines = writer.random, text.split("\n")
+    rows = [line.split(" ", 2) for line in lines if line[:5] in ("door ", "mark ")]
+    writer.doors = [row[1:] for row in rows if row[0] == "door"]
+    writer.marks = [row[1] for row in rows if row[0] == "mark"]
+    bodies = [at for at, line in enumerate(lines) if line.startswith("  ")]
+    way = pick.randrange(9)
+    if way == 0 or not bodies:
+        last = re.findall(r"^class (\w+)", text, re.M)[-1]
+        return f"{text}\nclass {last}z({last})"
+    at = pick.choice(bodies)
+    door, body = lines[at].strip().split(": ", 1)
+    number = [row[0] for row in writer.doors].index(door)
+    hops = [hop.span() for hop in re.finditer(r"raw|(self|super)[.][a-z]+", body)]
+    if way == 1:
+        body = writer.body(number, writer.doors[number][1])
+    elif way == 2:
+        body = body.replace("raw", "raw, raw", 1)
+    elif way in (3, 4) and hops:
+        start, end = pick.choice(hops)
+        body = body[:start] + writer.hop(number, "many" * pick.randrange(2)) + body[end:]
+    elif len(hops) > 1:
+        (start, end), (other, last) = sorted(pick.sample(hops, 2))
+        body = body[:start] + body[other:last] + body[end:other] + body[start:end] + body[last:]
+    lines[at] = f"  {door}: {body}"
+    return "\n".join(lines)
+
+
+def write_pairs(seed, many, most_doors=6, most_marks=2):
+    """Return pairs of studies whose libraries declare the same and have similar bodies."""
+    writer, pairs = Writer(seed), []
+    studies = [study for study in write_studies(seed, many)
+               if len(study.library.doors) <= most_doors and len(study.library.marks) <= most_marks]
+    while len(pairs) < many:
+        study = writer.random.choice(studies)
+        try:
+            text = study.library.text
+            for _ in range(1 + writer.random.randrange(3)):
+                text = vary(writer, text)
+            pairs.append((study, Study(Library.read(text))))
+        except DoorError:
+            continue
+    return pairs
+
+
 def some_cases(study, seed, sizes=(1, 2, 3, 5, 8)):
     """Return possible cases of many sizes, one for each door and own, if there are any."""
     pick, found = random.Random(seed), []
@@ -153,6 +202,56 @@ def some_cases(study, seed, sizes=(1, 2, 3, 5, 8)):
         states = [(pick.randrange(1 << len(study.library.marks)), may_hold and pick.random() < 0.4)
                   for _ in range(size)]
         found.append(Case(door, states, own))
+    return found
+
+
+def all_sets(study):
+    """Return all sets of doors in the order of point 34, which is that of itertools."""
+    names = [name for name, _, _ in study.library.doors]
+    return [doors for size in range(len(names) + 1) for doors in itertools.combinations(names, size)]
+
+
+def all_places(study):
+    return range(len(study.library) + 1)
+
+
+class KeptTraces:
+    """A study that keeps its traces, so that a plain search can ask for each of them often."""
+
+    def __init__(self, study):
+        self.study, self.library, self.cases, self.known = study, study.library, study.cases, {}
+
+    def trace(self, case):
+        name = str(case)
+        if name not in self.known:
+            self.known[name] = tuple(self.study.trace(case))
+        return self.known[name]
+
+
+def plain_goal(study, case, place, doors, goal):
+    """Return True if the goal holds in the case, as points 29 and 30 say it."""
+    trace = study.trace(case)
+    seen = visits(trace, place, doors)
+    puts = [index for index, row in enumerate(trace) if row[0] == "put"]
+    if goal == "whole":
+        made = (case.door, "many", "make") in study.library.doors
+        return made or not any(put < at for put in puts for at in seen)
+    assert len(case) == 1
+    if goal == "checked":
+        return all(any(at < put for at in seen) for put in puts)
+    if goal == "changed":
+        return all(len(set(seen) & set(around(trace, put))) == 1 for put in puts)
+    assert goal == "noted"
+    return len(seen) == (1 if puts else 0)
+
+
+def plain_breaks(study, place, doors, goals):
+    """Return the cases, in their order, in which one of the goals does not hold."""
+    found = [case for case in study.cases(1)
+             if not all(plain_goal(study, case, place, doors, goal) for goal in goals)]
+    if "whole" in goals:
+        found += [case for case in study.cases(2)
+                  if not plain_goal(study, case, place, doors, "whole")]
     return found
 
 
