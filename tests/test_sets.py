@@ -175,6 +175,10 @@ class PlacesTest(unittest.TestCase):
         self.assertEqual(
             [least_sets(study, place, "noted") for place in range(4)],
             [[("a",), ("b",)], [("a",), ("b",)], [("b",)], [("b",)]])
+        study = Study(Library.read(TEXT))
+        self.assertEqual(best_places(study, "changed"), [None, None, None])
+        for place in all_places(study):
+            self.assertEqual(least_sets(study, place, "whole", "noted"), [])
         study = study_of("door a one open", "door b one open", "class Base", "  b: raw",
                          "class Box(Base)", "  a: super.b")
         self.assertEqual(best_places(study, "changed"), [2, 1, None])
